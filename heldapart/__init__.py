@@ -1,0 +1,1 @@
+"""Heldapart: programs with pointers, let by or told where they go wrong."""

@@ -1,0 +1,11 @@
+"""The bounds of all that the package reads."""
+
+MAX_NAMES = 6
+MAX_LOOKS = 30
+MAX_PARTS = 8
+MAX_CLAUSES = 64
+MAX_CASES = 8192
+MAX_STATEMENTS = 40
+MAX_DEEP = 4
+MAX_FUNCTIONS = 6
+MAX_EDITS = 40

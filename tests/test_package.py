@@ -1,0 +1,82 @@
+"""The package folder, its interface, and the rules of the language that a short test can see."""
+
+import ast
+import doctest
+import pathlib
+import unittest
+
+ROOT = pathlib.Path(__file__).resolve().parent.parent
+FOLDER = ROOT / "heldapart"
+
+# What the interface lists, file by file, as far as it has landed.
+INTERFACE = {
+    "errors.py": (
+        "HeldError", "BadText", "Unfit", "BadProgram", "NoFunction", "Untold", "Open", "TooMany", "TooManyEdits",
+        "NothingToUndo", "NothingToRedo", "NoVersion", "BadLog",
+    ),
+    "sayings.py": ("saying_error", "names_in"),
+}
+ALLOWED_METHODS = (
+    "__init__", "__eq__", "__repr__", "__str__", "__len__", "__enter__", "__exit__", "__call__", "__iter__",
+)
+
+
+def files():
+    return sorted(path for path in FOLDER.iterdir() if path.suffix == ".py")
+
+
+class Package(unittest.TestCase):
+    def test_folder_holds_py_files_and_nothing_else(self):
+        # Python itself may have put its cache there; .gitignore keeps it out of commits.
+        listed = sorted(path.name for path in FOLDER.iterdir() if path.name != "__pycache__")
+        self.assertIn("__init__.py", listed)
+        for name in listed:
+            self.assertRegex(name, r"\A[a-z0-9_]+\.py\Z")
+        self.assertIn("__pycache__/", (ROOT / ".gitignore").read_text().split())
+
+    def test_interface_is_defined_in_its_files(self):
+        for file, names in INTERFACE.items():
+            tree = ast.parse((FOLDER / file).read_text())
+            defined = [row.name for row in tree.body if isinstance(row, (ast.FunctionDef, ast.ClassDef))]
+            for name in names:
+                self.assertEqual(defined.count(name), 1, (file, name))
+
+
+class Readme(unittest.TestCase):
+    def test_examples(self):
+        results = doctest.testfile(str(ROOT / "README.md"), module_relative=False)
+        self.assertGreater(results.attempted, 0)
+        self.assertEqual(results.failed, 0)
+
+
+class Language(unittest.TestCase):
+    def test_signs_and_lengths(self):
+        for path in files():
+            lines = path.read_text(encoding="utf-8").split("\n")
+            self.assertLessEqual(len(lines) - 1, 399, path.name)
+            for at, line in enumerate(lines, 1):
+                self.assertLessEqual(len(line), 120, (path.name, at))
+                self.assertTrue(all(" " <= sign <= "~" for sign in line), (path.name, at))
+
+    def test_functions_have_at_most_forty_lines(self):
+        for path in files():
+            for row in ast.walk(ast.parse(path.read_text())):
+                if isinstance(row, ast.FunctionDef):
+                    self.assertLessEqual(row.end_lineno - row.lineno + 1, 40, (path.name, row.name))
+                    if row.name.startswith("__"):
+                        self.assertIn(row.name, ALLOWED_METHODS, path.name)
+
+    def test_imports_are_from_files_of_the_package_by_full_names(self):
+        for path in files():
+            tree = ast.parse(path.read_text())
+            for row in ast.walk(tree):
+                self.assertNotIsInstance(row, ast.Import, path.name)
+                if isinstance(row, ast.ImportFrom):
+                    self.assertIn(row, tree.body)
+                    self.assertEqual(row.level, 0)
+                    self.assertTrue(row.module.startswith("heldapart."), (path.name, row.module))
+                    self.assertNotIn("*", [name.name for name in row.names])
+
+
+if __name__ == "__main__":
+    unittest.main()
