@@ -15,6 +15,10 @@ INTERFACE = {
         "NothingToUndo", "NothingToRedo", "NoVersion", "BadLog",
     ),
     "sayings.py": ("saying_error", "names_in"),
+    "sayingtexts.py": ("saying_text", "read_saying"),
+    "stores.py": ("store_error", "heap_error", "holds", "part_of", "lost"),
+    "cases.py": ("cases_of", "case_tells", "laid_out"),
+    "laying.py": ("is_laid", "follows", "parting"),
 }
 ALLOWED_METHODS = (
     "__init__", "__eq__", "__repr__", "__str__", "__len__", "__enter__", "__exit__", "__call__", "__iter__",
