@@ -1,6 +1,5 @@
 """What follows: is_laid, follows and parting, as A3 and D1 to D5 tell of them."""
 
-import itertools
 import random
 import unittest
 

@@ -19,6 +19,9 @@ INTERFACE = {
     "stores.py": ("store_error", "heap_error", "holds", "part_of", "lost"),
     "cases.py": ("cases_of", "case_tells", "laid_out"),
     "laying.py": ("is_laid", "follows", "parting"),
+    "programs.py": ("program_error", "names_of", "ways_of", "statement_at"),
+    "programtexts.py": ("function_text", "read_function", "program_text", "read_program"),
+    "running.py": ("run",),
 }
 ALLOWED_METHODS = (
     "__init__", "__eq__", "__repr__", "__str__", "__len__", "__enter__", "__exit__", "__call__", "__iter__",
