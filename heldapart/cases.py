@@ -45,6 +45,12 @@ def spots_of(lots):
 
 def clause_cases(clause, lots, spots):
     """Return all cases with these lots that come from clause."""
+    ways = layings(clause, spots, list(range(1, len(lots))))
+    return [(lots, tuple(sorted(arrows))) for arrows in ways]
+
+
+def layings(clause, spots, free):
+    """Return all lists of arrows by which clause is laid anew, no two from one lot, all from free ones."""
     looks, parts = clause
     if not looks_hold(looks, spots):
         return []
@@ -52,11 +58,10 @@ def clause_cases(clause, lots, spots):
     rows = [(spots[left], spots[right]) for word, left, right in parts if word == "list"]
     rows = [(begin, end) for begin, end in rows if begin != end]
     begins = [begin for begin, _ in cells + rows]
-    if 0 in begins or len(set(begins)) < len(begins):
+    if len(set(begins)) < len(begins) or not all([begin in free for begin in begins]):
         return []
     shorts = [(begin, "short", end) for begin, end in cells]
-    free = [lot for lot in range(1, len(lots)) if lot not in begins]
-    return [(lots, tuple(sorted(shorts + longs))) for longs in routes(rows, free)]
+    return [shorts + longs for longs in routes(rows, [lot for lot in free if lot not in begins])]
 
 
 def routes(rows, free):

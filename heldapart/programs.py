@@ -159,3 +159,22 @@ def statement_at(function, way):
         if known == way:
             return statement
     raise Unfit()
+
+
+def with_keeps(function, keeps):
+    """Return function with the keeps that the dict keeps has for the ways of whiles."""
+    return function[:6] + (with_keeps_below(function[6], (), keeps),)
+
+
+def with_keeps_below(statements, above, keeps):
+    """Return statements with the keeps that the dict keeps has for them and for what stands in them."""
+    rows = []
+    for place, statement in enumerate(statements):
+        way = above + (place,)
+        inner = [with_keeps_below(row, way + (side,), keeps) for side, row in enumerate(inner_of(statement))]
+        if statement[0] == "while":
+            statement = ("while", statement[1], keeps.get(way, statement[2]), inner[0])
+        elif statement[0] == "if":
+            statement = ("if", statement[1], inner[0], inner[1])
+        rows.append(statement)
+    return tuple(rows)
