@@ -126,8 +126,11 @@ def one(body, head="fun f(p) var a, b head empty foot empty "):
 
 
 class Case(unittest.TestCase):
+    # The tests of the machine with rows hand in their own one.
+    machine = staticmethod(run)
+
     def told(self, program, args, heap, choices, limit, meant, name="f"):
-        got = run(program, name, args, heap, choices, limit)
+        got = self.machine(program, name, args, heap, choices, limit)
         self.assertEqual(got, meant)
         self.assertEqual(repr(got), repr(meant))
 
@@ -325,7 +328,7 @@ class Faults(Case):
         for name in ("g", "ff", "p", "abcdefgh"):
             for args in ((), (1,), (1, 2, 3)):
                 with self.assertRaises(NoFunction) as caught:
-                    run(program, name, args, (), (), 0)
+                    self.machine(program, name, args, (), (), 0)
                 self.assertEqual((type(caught.exception), caught.exception.name), (NoFunction, name))
                 self.assertIsInstance(caught.exception, HeldError)
 
@@ -335,9 +338,9 @@ class Limits(Case):
         for text, steps in (("", 0), ("a = p;", 1), ("a = p; b = a;", 2), ("if any { } b = p;", 2), ("while any { }", 1),
                             ("a = new(nil); free(a);", 2), ("if p = p { if a = b { a = p; } }", 3)):
             for limit in range(steps):
-                self.assertEqual(run(one(text), "f", (1,), (), (), limit), ("long",), (text, limit))
+                self.assertEqual(self.machine(one(text), "f", (1,), (), (), limit), ("long",), (text, limit))
             for limit in (steps, steps + 1, steps + 50, 10 ** 4):
-                self.assertEqual(run(one(text), "f", (1,), (), (), limit)[0::3], ("done", steps), (text, limit))
+                self.assertEqual(self.machine(one(text), "f", (1,), (), (), limit)[0::3], ("done", steps), (text, limit))
 
     def test_a_fault_at_the_limit(self):
         program = one("a = p; free(a); if any { }")
@@ -364,7 +367,7 @@ class Limits(Case):
         self.told(program, (BIG,), heap[:2400] + ((BIG + 2400, 0),), (), 10 ** 4, ("done", 0, (), 2 + 4 * 2401))
         program = one("while a != p { a = new(b); b = a; }")
         held = tuple((at, at) for at in range(1, 6000, 2))
-        got = run(program, "f", (6000,), held, (), 10 ** 4)
+        got = self.machine(program, "f", (6000,), held, (), 10 ** 4)
         self.assertEqual((got[0], got[1], got[3]), ("done", 0, 9001))
         self.assertEqual([address for address, _ in got[2]], list(range(1, 6001)))
         self.assertEqual(dict(got[2])[4000], 3998)
@@ -378,15 +381,15 @@ class Limits(Case):
             args = tuple(source.randint(0, 4) for _ in params)
             heap = tuple((at, source.randint(0, 5)) for at in range(1, 6) if source.randint(0, 1))
             choices = tuple(source.randint(0, 3) for _ in range(60))
-            got = run(program, name, args, heap, choices, 40)
+            got = self.machine(program, name, args, heap, choices, 40)
             met[got[0]] += 1
             if got[0] == "long":
                 continue
             self.assertIsNone(heap_error(got[-2]))
-            self.assertEqual(run(program, name, args, heap, choices + (1, 2, 3), 10 ** 4), got)
-            self.assertEqual(run(program, name, args, heap, choices, got[-1]), got)
+            self.assertEqual(self.machine(program, name, args, heap, choices + (1, 2, 3), 10 ** 4), got)
+            self.assertEqual(self.machine(program, name, args, heap, choices, got[-1]), got)
             if got[-1]:
-                self.assertEqual(run(program, name, args, heap, choices, got[-1] - 1), ("long",))
+                self.assertEqual(self.machine(program, name, args, heap, choices, got[-1] - 1), ("long",))
         self.assertGreater(min(met.values()), 100)
 
     def test_just_what_the_words_tell(self):
@@ -407,10 +410,10 @@ class ByName(Case):
         program = one("a = new(p); while any { a = new(a); } result = a; free(p);")
         for heap, choices, limit in ((((4, 4),), (0, 1, 0, 0), 99), ((), (), 99), (((4, 4),), (1,) * 9, 5)):
             named = {"program": program, "name": "f", "args": (4,), "heap": heap, "choices": choices, "limit": limit}
-            same_twice(self, run, named)
+            same_twice(self, self.machine, named)
         for _ in (0, 1):
             with self.assertRaises(NoFunction):
-                run(limit=5, choices=(), heap=(), args=(), name="g", program=program)
+                self.machine(limit=5, choices=(), heap=(), args=(), name="g", program=program)
 
 
 if __name__ == "__main__":
