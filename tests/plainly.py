@@ -223,6 +223,22 @@ def plain_verdict(program, paper):
     return verdict, where, tuple(stretch.rows)
 
 
+def plain_paper(program, value):
+    """What replay has to tell of any value, None if it is no paper."""
+    if type(value) is not tuple or len(value) != 5:
+        return None
+    name, way, store, heap, answers = value
+    if type(name) is not str or type(way) is not tuple or not all(type(item) is int for item in way):
+        return None
+    if type(store) is not tuple or not all(type(item) is tuple and len(item) == 2 for item in store):
+        return None
+    if not all(type(known) is str and type(held) is int and held >= 0 for known, held in store):
+        return None
+    if not is_plain_heap(heap) or type(answers) is not tuple:
+        return None
+    return plain_verdict(program, value)
+
+
 def drawn(source, most=9):
     """An ask that draws right answers: addresses that names still have among them."""
 
