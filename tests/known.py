@@ -70,6 +70,15 @@ STILL_RIGHT = [
     ("copy", "result = new(result); ", ""), ("copyr", "copyr(a)", "copyr(nil)"),
 ]
 
+# Of what comes to the while of the first no saying tells; to that of the second 65 clauses and more come; the third
+# has a keep with more than 8192 cases.
+SPOILT = ("fun spoilt(p) var a, b head empty foot empty { a = new(nil); b = new(a); free(a); a = nil; "
+          "while any { b = b; } }")
+MANY = ("fun many(a, b) var c, d, e head empty foot empty { while any { if any { c = a; } if any { c = b; } "
+        "if any { d = c; } if any { e = d; } if any { result = e; } if any { e = nil; } if any { d = e; } "
+        "if any { c = nil; } } }")
+OVER = "fun over(a, b) var c, d, e head empty foot empty { while any keep list(a, nil) | list(b, nil) { } while any { } }"
+
 
 def right(name):
     return read_program(RIGHT[name])

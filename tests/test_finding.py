@@ -15,7 +15,7 @@ from heldapart.programtexts import read_program
 from heldapart.sayings import saying_error
 from heldapart.sayingtexts import read_saying
 from heldapart.stores import holds
-from known import RIGHT, right, small_program, without_keeps
+from known import MANY, OVER, RIGHT, SPOILT, right, small_program, without_keeps
 from naively import naive_found, plain_clause, plainly_folded
 from plainly import whiles_of
 from shapes import all_cases, case_fault, random_case, same_twice, stretched
@@ -56,12 +56,6 @@ TWO, THREE = ("x", "y"), ("x", "y", "z")
 SIX = ("a", "b", "c", "d", "e", "result")
 SHORT, LONG = "short", "long"
 NEVER = (((("isnt", "nil", "nil"),), ()),)
-SPOILT = ("fun spoilt(p) var a, b head empty foot empty { a = new(nil); b = new(a); free(a); a = nil; "
-          "while any { b = b; } }")
-MANY = ("fun many(a, b) var c, d, e head empty foot empty { while any { if any { c = a; } if any { c = b; } "
-        "if any { d = c; } if any { e = d; } if any { result = e; } if any { e = nil; } if any { d = e; } "
-        "if any { c = nil; } } }")
-OVER = "fun over(a, b) var c, d, e head empty foot empty { while any keep list(a, nil) | list(b, nil) { } while any { } }"
 
 
 class Examples(unittest.TestCase):
