@@ -38,7 +38,7 @@ class Shell:
         except NoText:
             return "what"
         except HeldError as error:
-            return "error " + error.__class__.__name__
+            return "error " + type(error).__name__
 
 
 def answer_to(desk, line):

@@ -39,6 +39,7 @@ class Stretches:
         self.came = {}
         self.ends = {}
         self.arrivals = []
+        self.counts = {}
         self.todo = []
 
     def begin(self, case):
@@ -72,6 +73,9 @@ class Stretches:
             self.ends[(where, word, case)] = origin
             if word == "came":
                 self.arrivals.append((where, case))
+                self.counts[where] = self.counts.get(where, 0) + 1
+                if self.counts[where] > MAX_CASES:
+                    raise TooMany(MAX_CASES)
 
     def take_arrivals(self):
         """Return where and with which case stretches came to a while or the end since this was asked last."""

@@ -98,7 +98,8 @@ def small_saying(source, names, clauses):
     terms = names + ("nil",)
     texts = []
     for _ in range(source.randint(1, clauses)):
-        forms = [source.choice(("list(%s, %s)", "list(%s, nil)", "list(%s, nil)", "cell(%s, %s)", "%s = %s", "%s != %s"))
+        forms = [source.choice(("list(%s, %s)", "list(%s, nil)", "list(%s, nil)", "cell(%s, %s)", "%s = %s",
+                                "%s != %s"))
                  for _ in range(source.randint(0, 2))]
         rows = [form % tuple(source.choice(terms) for _ in range(form.count("%s"))) for form in forms]
         texts.append(" * ".join(rows) or "empty")

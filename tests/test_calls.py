@@ -162,7 +162,8 @@ class RestOf(unittest.TestCase):
 class Called(Case):
     def test_heads(self):
         callee = function("cell(p, q)", "cell(p, q)", ("p", "q"))
-        for case, fits in (((((), ("x",), ("y",)), ((1, SHORT, 2),)), True), ((((), ("x",), ("y",)), ((1, LONG, 2),)), False),
+        for case, fits in (((((), ("x",), ("y",)), ((1, SHORT, 2),)), True),
+                           ((((), ("x",), ("y",)), ((1, LONG, 2),)), False),
                            ((((), ("x",), ("y",)), ()), False), (((("x", "y"),), ()), False),
                            ((((), ("x",), ("y",)), ((2, SHORT, 1),)), False)):
             told = self.answered(TWO, case, callee, ("call", "y", "f", ("x", "y"), ()))
@@ -302,8 +303,10 @@ class Called(Case):
 class BesideAnswers(Case):
     """called beside all answers on small heaps, as I4 tells."""
 
-    FEET = ["empty", "result = nil", "cell(result, nil)", "list(result, nil)", "list(p, nil)", "result = p * list(p, nil)",
-            "cell(p, result)", "list(p, result)", "list(p, nil) * list(result, p)", "p != nil * cell(p, p) | result = p",
+    FEET = ["empty", "result = nil", "cell(result, nil)", "list(result, nil)", "list(p, nil)",
+            "result = p * list(p, nil)",
+            "cell(p, result)", "list(p, result)", "list(p, nil) * list(result, p)",
+            "p != nil * cell(p, p) | result = p",
             "list(p, result) * list(result, nil) | p = nil", "cell(result, p)", "p != result * cell(result, result)"]
     HEADS = ["empty", "list(p, nil)", "cell(p, nil)", "p != nil", "cell(p, p)"]
 
@@ -324,7 +327,8 @@ class BesideAnswers(Case):
                 if plainly_lost(behind[0], left | dict(piece)):
                     told = [outcome for outcome in outcomes if outcome[0] == "lost"]
                 else:
-                    told = [outcome for outcome in outcomes if outcome[0] == "case" and case_tells(names, outcome[1], *behind)]
+                    told = [outcome for outcome in outcomes if outcome[0] == "case" and case_tells(names, outcome[1],
+                                                                                                   *behind)]
                 self.assertTrue(told, (case, callee[4:6], statement, store, heap, given, piece))
                 met.update(told)
         self.assertEqual(met, set(outcomes), (case, callee[4:6], statement))

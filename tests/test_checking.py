@@ -183,7 +183,8 @@ class Cuts(unittest.TestCase):
         self.assertEqual(cuts(function(body=(("if", ("any",), (("free", "p"),), (("free", "p"),)),) * 9)), ((),))
 
     def test_in_one_another_and_in_both_sides_of_ifs(self):
-        inner = ("while", ("any",), None, (("while", ("is", "p", "p"), EMPTY, ()), ("free", "p"), ("while", ("any",), None, ())))
+        inner = ("while", ("any",), None, (("while", ("is", "p", "p"), EMPTY, ()), ("free", "p"),
+                                           ("while", ("any",), None, ())))
         one = function(body=(inner, ("if", ("any",), (inner,), (("free", "p"), inner)), ("while", ("any",), EMPTY, ())))
         self.assertEqual(cuts(one), (
             (), (0,), (0, 0, 0), (0, 0, 2), (1, 0, 0), (1, 0, 0, 0, 0), (1, 0, 0, 0, 2), (1, 1, 1), (1, 1, 1, 0, 0),
@@ -228,7 +229,8 @@ class Ends(Case):
         program = read_program("fun f(p) var a head empty foot p = nil { while any keep a = p { a = p; "
                                "while any keep a = nil { if any { a = nil; } else { a = p; } } a = nil; } "
                                "while any keep a != nil { a = p; } }")
-        ends = {way: {(where, verdict) for where, verdict, _ in self.ends(program, "f", way)} for way in cuts(program[0])}
+        ends = {way: {(where, verdict) for where, verdict, _ in self.ends(program, "f",
+                                                                          way)} for way in cuts(program[0])}
         self.assertEqual(ends, {
             (): {((0,), "kept"), ((0,), "unkept")},
             (0,): {((0, 0, 1), "kept"), ((0, 0, 1), "unkept"), ((1,), "kept"), ((1,), "unkept")},
@@ -243,7 +245,8 @@ class Ends(Case):
         self.assertEqual({where for where, _, _ in self.ends(program, "walk", ())}, {(1,)})
 
     def test_ifs_of_all_three_tests(self):
-        for test, ways in (("any", {(0, 0, 0), (0, 1, 0)}), ("p = nil", {(0, 0, 0), (0, 1, 0)}), ("p != nil", {(0, 0, 0), (0, 1, 0)}),
+        for test, ways in (("any", {(0, 0, 0), (0, 1, 0)}), ("p = nil", {(0, 0, 0), (0, 1, 0)}),
+                           ("p != nil", {(0, 0, 0), (0, 1, 0)}),
                            ("p = p", {(0, 0, 0)}), ("p != p", {(0, 1, 0)}), ("p = result", {(0, 0, 0), (0, 1, 0)}),
                            ("result != nil", {(0, 1, 0)}), ("nil = nil", {(0, 0, 0)})):
             program = read_program("fun f(p) head empty foot empty { if %s { free(nil); } else { free(nil); } }" % test)
@@ -272,7 +275,8 @@ class Ends(Case):
         program = read_program("fun f(p) with s var a head cell(p, s) * s != nil foot empty { }")
         told = self.ends(program, "f", ())
         self.assertEqual([case for _, _, case in told], [
-            ((("a", "result"), ("p",), ("s",)), ((1, "short", 2),)), ((("a", "result"), ("p", "s")), ((1, "short", 1),))])
+            ((("a", "result"), ("p",), ("s",)), ((1, "short", 2),)),
+            ((("a", "result"), ("p", "s")), ((1, "short", 1),))])
 
     def test_at_a_while_all_names_are_as_the_keep_tells(self):
         program = read_program("fun f(p) head p = nil foot empty { while any keep empty { } }")
@@ -351,7 +355,8 @@ class Ends(Case):
             self.raised(NoFunction, {"name": name}, stretch_ends, many, name, (0,))
         for way in ((), (0,), (1,), (1, 0, 0)):
             self.raised(Open, {"name": "f", "way": (1,)}, stretch_ends, many, "f", way)
-        told = read_program((six % ("empty", "list(a, nil) | list(b, nil)")).replace("while any { while any", "if any { while any keep empty"))
+        told = read_program((six % ("empty", "list(a, nil) | list(b, nil)")).replace("while any { while any",
+                                                                                     "if any { while any keep empty"))
         self.raised(TooMany, {"limit": 8192}, stretch_ends, told, "f", (0,))
         self.assertEqual({where for where, _, _ in stretch_ends(told, "f", ())}, {(0,)})
         self.assertEqual({where for where, _, _ in stretch_ends(told, "f", (1, 0, 0))}, {(), (1, 0, 0)})
@@ -384,7 +389,8 @@ class Checked(Case):
         for text, verdict, where in (
             ("fun f(p) head empty foot empty { result = [p]; }", "fault", (0,)),
             ("fun f(p) head cell(p, p) foot empty { if any { } else { free(p); free(p); } }", None, None),
-            ("fun f(p) head empty foot empty { if any { result = nil; } while any keep empty { [result] = p; } }", "fault", (1, 0, 0)),
+            ("fun f(p) head empty foot empty { if any { result = nil; } while any keep empty { [result] = p; } }",
+             "fault", (1, 0, 0)),
             ("fun f() head empty foot empty { result = new(nil); result = nil; }", "lost", (1,)),
             ("fun f(p) head cell(p, nil) foot empty { result = new(p); result = new(nil); }", "lost", (1,)),
             ("fun f(p) head empty foot empty { result = f(p); result = g(p); } fun g(p) head cell(p, nil) foot cell(p, nil) { }", "head", (1,)),
@@ -396,7 +402,8 @@ class Checked(Case):
             ("fun f(p) head p = nil foot empty { while any keep result = nil { result = p; } }", "unkept", (0,)),
             ("fun f(p) head list(p, nil) foot cell(p, nil) { }", "unkept", ()),
             ("fun f(p) head empty foot empty { result = new(p); }", "unkept", ()),
-            ("fun f(p) head empty foot result != nil { result = g(p); } fun g(p) head empty foot empty { }", "unkept", ()),
+            ("fun f(p) head empty foot result != nil { result = g(p); } fun g(p) head empty foot empty { }", "unkept",
+             ()),
         ):
             got = self.paper(read_program(text))
             if verdict is not None:

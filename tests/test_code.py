@@ -138,7 +138,8 @@ class Rows(unittest.TestCase):
 
     def test_whiles(self):
         for keep in (None, EMPTY, KEEP):
-            self.assertEqual(self.code(("while", ("any",), keep, ())), (("unless", ("any",), 2), ("jump", 0), ("back",)))
+            self.assertEqual(self.code(("while", ("any",), keep, ())),
+                             (("unless", ("any",), 2), ("jump", 0), ("back",)))
             self.assertEqual(self.code(PUT, ("while", ("any",), keep, (SET,)), PUT),
                              (PUT, ("unless", ("any",), 4), SET, ("jump", 1), PUT, ("back",)))
 

@@ -60,7 +60,8 @@ EXAMPLES = r"""
 PLAIN = "fun %s(p) head empty foot empty { }"
 LOOP = "fun loop(p) var a head empty foot empty { a = p; while any { while a = p keep a = p { } } free(nil); }"
 CALLS = "fun calls(p) head empty foot empty { result = other(p); }"
-ODD = NO_TUPLES + [BadText(), Open("f", (0,)), HeldError(), Desk(), (), ((),), [1], {"f": ()}, "f", ("f",), -1, True, "fun", (True,)]
+ODD = NO_TUPLES + [BadText(), Open("f", (0,)), HeldError(), Desk(), (), ((),), [1], {"f": ()}, "f", ("f",), -1, True,
+                   "fun", (True,)]
 
 
 class PlainDesk:
@@ -185,7 +186,8 @@ class Edits(Case):
         other = "fun f(p, q) head empty foot empty { free(p); }"
         self.assertEqual(d.put(other), 4)
         self.assertEqual(d.program, tuple(read_function(text) for text in (CALLS, other, PLAIN % "g")))
-        for text in ODD + ["", "fun", "fun f(p) { }", other + other, other[:-1], "fun f(s) head empty foot empty { free(q); }"]:
+        for text in ODD + ["", "fun", "fun f(p) { }", other + other, other[:-1],
+                           "fun f(s) head empty foot empty { free(q); }"]:
             self.refused(d, BadText, {}, d.put, text)
 
     def test_seven_functions(self):
@@ -225,7 +227,8 @@ class Edits(Case):
         d = self.desk(LOOP)
         for name in ODD + ["f"]:
             self.refused(d, NoFunction, {"name": name}, d.keep, name, (0,), "=")
-        for way in ODD + [(0,), (2,), (3,), (1, 0), (1, 0, 1), (True,), (1.0,), [1], (1, False, 0), "1", (-1,), ("1",), 1]:
+        for way in ODD + [(0,), (2,), (3,), (1, 0), (1, 0, 1), (True,), (1.0,), [1], (1, False, 0), "1", (-1,), ("1",),
+                          1]:
             self.refused(d, Unfit, {}, d.keep, "loop", way, "=")
         for text in ODD + ["=", "a = ", "a = b |", "[", "keep = a"]:
             if text not in ("empty", None):
@@ -269,7 +272,8 @@ class Edits(Case):
         d = self.desk(LOOP)
         for many in range(2, 41):
             self.assertEqual(d.keep("loop", (1,), "a = p" if many % 2 else None), many)
-        for call, given in ((d.put, (PLAIN % "f",)), (d.put, (LOOP,)), (d.drop, ("loop",)), (d.keep, ("loop", (1,), "empty")), (d.find, ())):
+        for call, given in ((d.put, (PLAIN % "f",)), (d.put, (LOOP,)), (d.drop, ("loop",)),
+                            (d.keep, ("loop", (1,), "empty")), (d.find, ())):
             self.refused(d, TooManyEdits, {}, call, *given)
         self.refused(d, BadText, {}, d.put, "f")
         self.refused(d, NoFunction, {"name": "f"}, d.drop, "f")
@@ -293,7 +297,8 @@ class Versions(Case):
     def test_undo_and_redo_behind_each_edit(self):
         d = self.desk(LOOP)
         programs = [(), d.program]
-        for call, given in ((d.put, (PLAIN % "f",)), (d.keep, ("loop", (1,), "a = p")), (d.find, ()), (d.drop, ("loop",)),
+        for call, given in ((d.put, (PLAIN % "f",)), (d.keep, ("loop", (1,), "a = p")), (d.find, ()),
+                            (d.drop, ("loop",)),
                             (d.put, (LOOP,))):
             call(*given)
             programs.append(d.program)
@@ -371,8 +376,10 @@ class Asked(Case):
 
     def test_run(self):
         d = self.desk(RIGHT["turn"], PLAIN % "f")
-        for args, heap, choices, limit in (((1,), ((1, 2), (2, 0)), (), 100), ((1,), (), (), 10 ** 4), ((0,), ((7, 7),), (10 ** 399, 0), 0)):
-            self.assertEqual(d.run("turn", args, heap, choices, limit), run(d.program, "turn", args, heap, choices, limit))
+        for args, heap, choices, limit in (((1,), ((1, 2), (2, 0)), (), 100), ((1,), (), (), 10 ** 4),
+                                           ((0,), ((7, 7),), (10 ** 399, 0), 0)):
+            self.assertEqual(d.run("turn", args, heap, choices, limit),
+                             run(d.program, "turn", args, heap, choices, limit))
             named = {"limit": limit, "choices": choices, "heap": heap, "args": args, "name": "turn"}
             self.assertEqual(d.run(**named), run(d.program, "turn", args, heap, choices, limit))
 
@@ -384,7 +391,8 @@ class Asked(Case):
             self.raised(NoFunction, {"name": name}, d.run, name, None, None, None, None)
         for spot, wrong in (
             ("args", ODD + [(), (1, 2), (True,), (-1,), [1], 1, ("1",), (None,), ((1,),)]),
-            ("heap", [(1, 0), ((1, 0), (1, 0)), ((2, 0), (1, 0)), ((0, 0),), ((1, True),), [(1, 0)], ([1, 0],), None, "", {1: 0}, 0, False]),
+            ("heap", [(1, 0), ((1, 0), (1, 0)), ((2, 0), (1, 0)), ((0, 0),), ((1, True),), [(1, 0)], ([1, 0],), None,
+                      "", {1: 0}, 0, False]),
             ("choices", [None, [0], (True,), (-1,), ("1",), (0, None), 0, {}, "", ((),), (1.0,)]),
             ("limit", [None, -1, 10 ** 4 + 1, 10 ** 399, True, False, "9", (9,), 9.0, [], {}]),
         ):
@@ -425,7 +433,8 @@ class Asked(Case):
 
 
 class BesideThePlainWords(Case):
-    TEXTS = [LOOP, LOOP.replace("free(nil);", ""), CALLS, SPOILT, PLAIN % "other", "fun", "", RIGHT["turn"], RIGHT["walk"]] + [
+    TEXTS = [LOOP, LOOP.replace("free(nil);", ""), CALLS, SPOILT, PLAIN % "other", "fun", "", RIGHT["turn"],
+             RIGHT["walk"]] + [
         PLAIN % name for name in "fghij"]
 
     def test_edits_at_random(self):
@@ -460,10 +469,12 @@ class BesideThePlainWords(Case):
 
 class Logs(Case):
     def test_items_turned_left_out_and_told_twice(self):
-        log = (("put", LOOP), ("keep", "loop", (1,), "empty"), ("put", PLAIN % "f"), ("drop", "loop"), ("find",), ("drop", "f"))
+        log = (("put", LOOP), ("keep", "loop", (1,), "empty"), ("put", PLAIN % "f"), ("drop", "loop"), ("find",),
+               ("drop", "f"))
         self.assertEqual(desk_behind(log).log, log)
         self.assertEqual(desk_behind(log).program, ())
-        for other, place in ((log[1:], 0), (log[:1] + log[2:3] + log[3:4] + log[1:], 3), (log + log[-1:], 6), (log + log[4:5], 6),
+        for other, place in ((log[1:], 0), (log[:1] + log[2:3] + log[3:4] + log[1:], 3), (log + log[-1:], 6),
+                             (log + log[4:5], 6),
                              ((log[4],), 0), (log[:4] + log[3:], 4), (log[:3] + (log[5], log[4], log[3]), None)):
             if place is None:
                 self.assertEqual(desk_behind(other).version, 6)
@@ -472,8 +483,10 @@ class Logs(Case):
 
     def test_items_that_are_none(self):
         good = ("put", PLAIN % "f")
-        for item in ODD + [list(good), good + (1,), good[:1], ("undo",), ("redo",), ("at", 0), ("find", None), ("keep", "f", (0,)),
-                           ("drop",), ("drop", "f", "g"), ("Put", good[1]), (True,), ("put", None), ("check",), ("text", "f"), ("find", ())]:
+        for item in ODD + [list(good), good + (1,), good[:1], ("undo",), ("redo",), ("at", 0), ("find", None),
+                           ("keep", "f", (0,)),
+                           ("drop",), ("drop", "f", "g"), ("Put", good[1]), (True,), ("put", None), ("check",),
+                           ("text", "f"), ("find", ())]:
             self.raised(BadLog, {"place": 1}, desk_behind, (good, item))
             self.raised(BadLog, {"place": 0}, desk_behind, (item, good))
             self.raised(BadLog, {"place": 2}, desk_behind, (good, ("find",), item, None))

@@ -198,7 +198,8 @@ class Found(unittest.TestCase):
 
     def test_whiles_that_nothing_comes_to(self):
         for text in (
-            "fun f(p) head p != p foot empty { while any { } }", "fun f() head empty foot empty { free(nil); while any { } }",
+            "fun f(p) head p != p foot empty { while any { } }",
+            "fun f() head empty foot empty { free(nil); while any { } }",
             "fun f(p) head empty foot empty { if p != p { while any { } } }",
             "fun f(p) head empty foot empty { while p != p keep p != p { while any { } } }",
             "fun f() head empty foot empty { result = new(nil); result = nil; while any { } }",
@@ -322,7 +323,8 @@ class Found(unittest.TestCase):
 class ByName(unittest.TestCase):
     def test_by_place_and_by_name_twice(self):
         case = (((), ("x",), ("y",), ()), ((1, SHORT, 3), (3, SHORT, 2)))
-        self.assertEqual(same_twice(self, folded, {"names": TWO, "case": case}), (((), ("x",), ("y",)), ((1, LONG, 2),)))
+        self.assertEqual(same_twice(self, folded, {"names": TWO, "case": case}),
+                         (((), ("x",), ("y",)), ((1, LONG, 2),)))
         self.assertEqual(len(same_twice(self, clause_of, {"names": TWO, "case": folded(TWO, case)})[0]), 3)
         self.assertEqual(len(same_twice(self, found, {"program": without_keeps("turn")})), 1)
         for _ in (0, 1):

@@ -40,7 +40,8 @@ EXAMPLES = r"""
 """
 
 BIG = 10 ** 399
-ODD = NO_TUPLES + [(), ((),), [1], ("any",), ("new", 0), (("any", True),), BadText(), Open("f", (0,)), "f", "any", -1, True, 1.5]
+ODD = NO_TUPLES + [(), ((),), [1], ("any",), ("new", 0), (("any", True),), BadText(), Open("f", (0,)), "f", "any", -1,
+                   True, 1.5]
 
 
 def store(**values):
@@ -133,7 +134,8 @@ class Papers(Case):
         program = read_program("fun f(p) head empty foot empty { while any keep empty { while any keep empty { free(nil); } free(nil); } free(nil); }")
         for way in ((), (0,)):
             self.none(program, ("f", way, store(p=0), (), ()))
-        self.none(program, ("f", (0,), store(p=0), (), (("any", True),)), ("f", (0,), store(p=0), (), (("any", True), ("any", True))))
+        self.none(program, ("f", (0,), store(p=0), (), (("any", True),)),
+                  ("f", (0,), store(p=0), (), (("any", True), ("any", True))))
         self.paper(program, ("f", (0,), store(p=0), (), (("any", False),)), "fault", (1,), 1)
         self.paper(program, ("f", (0, 0, 0), store(p=0), (), (("any", True),)), "fault", (0, 0, 0, 0, 0), 1)
         self.paper(program, ("f", (0, 0, 0), store(p=0), (), (("any", False),)), "fault", (0, 0, 1), 1)
@@ -211,7 +213,8 @@ class Values(Case):
         program = read_program("fun f(p) head empty foot empty { free(nil); while any keep empty { free(nil); } if any { } }")
         good = ("f", (1,), store(p=0), (), (("any", True),))
         self.paper(program, good, "fault", (1, 0, 0), 1)
-        for way in ((0,), (2,), (1, 0), (1, 0, 0), (1, 0, 0, 0), (-1,), (True,), ("1",), [1], 1, None, "1", (1.0,), ((1,),), {1: 1}):
+        for way in ((0,), (2,), (1, 0), (1, 0, 0), (1, 0, 0, 0), (-1,), (True,), ("1",), [1], 1, None, "1", (1.0,),
+                    ((1,),), {1: 1}):
             self.none(program, good[:1] + (way,) + good[2:])
         self.paper(program, ("f", (), store(p=0), (), ()), "fault", (0,), 1)
         for way in ([], None, "", False, {}, ((),)):
@@ -221,33 +224,43 @@ class Values(Case):
         program = read_program("fun f() head empty foot empty { free(nil); } fun g(p) head empty foot empty { free(nil); }")
         self.paper(program, ("f", (), store(), (), ()), "fault", (0,), 1)
         self.paper(program, ("g", (), store(p=4), (), ()), "fault", (0,), 1)
-        self.none(program, *[(name, (), store(), (), ()) for name in ODD + ["g", "F", "f ", "h", "", ["f"], ("f",)] if name != "f"])
+        self.none(program, *[(name, (), store(), (), ()) for name in ODD + ["g", "F", "f ", "h", "", ["f"],
+                                                                            ("f",)] if name != "f"])
 
     def test_stores(self):
         program = read_program("fun f(p) var a head p != nil foot empty { free(nil); }")
         good = ("f", (), store(a=0, p=1), (), ())
         self.paper(program, good, "fault", (0,), 1)
-        for given in (store(a=0), store(p=1), store(a=0, p=1, s=0), store(a=0, p=1)[::-1], store(a=0, p=0), store(a=1, p=1),
-                      store(a=0, p=1, result=1), store(a=0, p=True), store(a=False, p=1), store(a=0, p=-1), list(store(a=0, p=1)),
-                      tuple(list(item) for item in store(a=0, p=1)), store(a=0, p=1) + (("result", 0),), (("a", 0), ("p", 1)),
-                      store(a=0, q=1), store(a=0, p="1"), store(a=0, p=None), dict(store(a=0, p=1)), (("nil", 0),) + store(a=0, p=1)):
+        for given in (store(a=0), store(p=1), store(a=0, p=1, s=0), store(a=0, p=1)[::-1], store(a=0, p=0),
+                      store(a=1, p=1),
+                      store(a=0, p=1, result=1), store(a=0, p=True), store(a=False, p=1), store(a=0, p=-1),
+                      list(store(a=0, p=1)),
+                      tuple(list(item) for item in store(a=0, p=1)), store(a=0, p=1) + (("result", 0),),
+                      (("a", 0), ("p", 1)),
+                      store(a=0, q=1), store(a=0, p="1"), store(a=0, p=None), dict(store(a=0, p=1)),
+                      (("nil", 0),) + store(a=0, p=1)):
             self.none(program, ("f", (), given, (), ()))
 
     def test_heaps(self):
         program = read_program("fun f(p) head list(p, nil) foot empty { free(nil); }")
         self.paper(program, ("f", (), store(p=1), ((1, 2), (2, 0)), ()), "fault", (0,), 1)
         self.paper(program, ("f", (), store(p=2), ((1, 0), (2, 1)), ()), "fault", (0,), 1)
-        for heap in (((2, 0), (1, 2)), ((1, 2),), ((1, 2), (2, 0), (3, 0)), [(1, 2), (2, 0)], ((1, 2), [2, 0]), ((1, 2), (2, False)),
-                     ((True, 2), (2, 0)), ((0, 0), (1, 2), (2, 0)), ((1, 2), (2, 0), (2, 0)), (), ((1, 2), (2, -1)), None):
+        for heap in (((2, 0), (1, 2)), ((1, 2),), ((1, 2), (2, 0), (3, 0)), [(1, 2), (2, 0)], ((1, 2), [2, 0]),
+                     ((1, 2), (2, False)),
+                     ((True, 2), (2, 0)), ((0, 0), (1, 2), (2, 0)), ((1, 2), (2, 0), (2, 0)), (), ((1, 2), (2, -1)),
+                     None):
             self.none(program, ("f", (), store(p=1), heap, ()))
 
     def test_any_answers(self):
         program = read_program("fun f(p) head empty foot empty { if any { } else { if any { free(nil); } } }")
         good = (("any", False), ("any", True))
         self.paper(program, ("f", (), store(p=0), (), good), "fault", (0, 1, 0, 0, 0), 1)
-        for answers in ((), good[:1], good + good[:1], good + good[1:], good[::-1], list(good), tuple(list(item) for item in good),
-                        (("any", 0), ("any", 1)), (("any", False), ("any", 1)), (("any", False), ("new", 1)), (("any", True),),
-                        (("any", False, 0), good[1]), (("any",), good[1]), (good[0], good[1], None), (False, True), ((), ()),
+        for answers in ((), good[:1], good + good[:1], good + good[1:], good[::-1], list(good),
+                        tuple(list(item) for item in good),
+                        (("any", 0), ("any", 1)), (("any", False), ("any", 1)), (("any", False), ("new", 1)),
+                        (("any", True),),
+                        (("any", False, 0), good[1]), (("any",), good[1]), (good[0], good[1], None), (False, True),
+                        ((), ()),
                         (("any", None), good[1]), (good[0], ("call", 0, ())), (good,), (good[0], "any")):
             self.none(program, ("f", (), store(p=0), (), answers))
 
@@ -256,8 +269,10 @@ class Values(Case):
         heap = ((1, 2), (2, 0))
         for address in (3, 4, BIG, 10 ** 20):
             self.paper(program, ("f", (), store(p=1), heap, (("new", address),)), "unkept", (), 2)
-        for answers in ((("new", 1),), (("new", 2),), (("new", 0),), (("new", True),), (("new", -1),), (("new", "3"),), (("new", None),),
-                        (), (("new", 3), ("new", 4)), (("any", True),), (("new", 3, 4),), (["new", 3],), [("new", 3)], (("new", 3.0),),
+        for answers in ((("new", 1),), (("new", 2),), (("new", 0),), (("new", True),), (("new", -1),), (("new", "3"),),
+                        (("new", None),),
+                        (), (("new", 3), ("new", 4)), (("any", True),), (("new", 3, 4),), (["new", 3],), [("new", 3)],
+                        (("new", 3.0),),
                         (("call", 3, ((3, 1),)),), (("new", (3,)),), ("new", 3), (("New", 3),)):
             self.none(program, ("f", (), store(p=1), heap, answers))
         twice = read_program("fun f(p) head p = nil foot empty { result = new(p); free(result); result = new(result); }")
@@ -269,13 +284,18 @@ class Values(Case):
                                "fun g(p) head list(p, nil) foot list(p, result) * list(result, nil) { }")
         heap = ((1, 2), (2, 0), (7, 0), (8, 7))
         good = ("f", (), store(p=1, q=8), heap)
-        for given, piece in ((1, ((1, 0),)), (0, ((1, 0),)), (2, ((1, 2), (2, 0))), (5, ((1, 5), (5, 3), (3, 0))), (9, ((1, 9), (9, 0)))):
+        for given, piece in ((1, ((1, 0),)), (0, ((1, 0),)), (2, ((1, 2), (2, 0))), (5, ((1, 5), (5, 3), (3, 0))),
+                             (9, ((1, 9), (9, 0)))):
             self.paper(program, good + ((("call", given, tuple(sorted(piece))),),), "unkept", (), 2)
-        for answer in (("call", 2, ((1, 2),)), ("call", 0, ()), ("call", 7, ((1, 7),)), ("call", 7, ((1, 7), (7, 0))), ("call", 0, ((2, 0),)),
-                       ("call", 3, ((1, 0),)), ("call", 1, ((1, 0), (3, 0))), ("call", True, ((1, 0),)), ("call", False, ((1, 0),)),
+        for answer in (("call", 2, ((1, 2),)), ("call", 0, ()), ("call", 7, ((1, 7),)), ("call", 7, ((1, 7), (7, 0))),
+                       ("call", 0, ((2, 0),)),
+                       ("call", 3, ((1, 0),)), ("call", 1, ((1, 0), (3, 0))), ("call", True, ((1, 0),)),
+                       ("call", False, ((1, 0),)),
                        ("call", -1, ((1, 0),)), ("call", 1, [(1, 0)]), ("call", 1, ([1, 0],)), ["call", 1, ((1, 0),)],
-                       ("call", 1, ((1, False),)), ("call", 1, ((True, 0),)), ("call", 5, ((5, 3), (1, 5), (3, 0))), ("call", 1),
-                       ("call", 1, ((1, 0),), ()), ("call", 1, None), ("call", None, ((1, 0),)), ("new", 1), ("any", True), None,
+                       ("call", 1, ((1, False),)), ("call", 1, ((True, 0),)), ("call", 5, ((5, 3), (1, 5), (3, 0))),
+                       ("call", 1),
+                       ("call", 1, ((1, 0),), ()), ("call", 1, None), ("call", None, ((1, 0),)), ("new", 1),
+                       ("any", True), None,
                        ("call", 1, ((0, 0), (1, 0)))):
             self.none(program, good + ((answer,),))
         self.none(program, good + ((),), good + ((("call", 1, ((1, 0),)),) * 2,), good + ([("call", 1, ((1, 0),))],))
@@ -374,7 +394,8 @@ class Replays(Case):
         paper = ("f", (), store(a=0, p=4), ((4, 0),), (("new", 9), ("any", True), ("call", 2, ((2, 9),))))
         self.assertEqual(replay(program, paper), ("unkept", (), (
             (store(a=0, p=4), ((4, 0),)), (store(a=9, p=4), ((4, 0), (9, 4))), (store(a=9, p=4), ((4, 9), (9, 4))),
-            (store(a=9, p=4), ((4, 9), (9, 4))), (store(a=2, p=4), ((2, 9), (4, 9), (9, 4))), (store(a=2, p=4), ((2, 9), (9, 4))),
+            (store(a=9, p=4), ((4, 9), (9, 4))), (store(a=2, p=4), ((2, 9), (4, 9), (9, 4))),
+            (store(a=2, p=4), ((2, 9), (9, 4))),
         )))
         self.assertIsNotNone(self.told(program, paper))
 

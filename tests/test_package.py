@@ -41,7 +41,7 @@ NO_ATTRIBUTES = (
     "items", "keys", "values", "pop", "update", "append", "clear", "extend", "insert", "remove", "reverse", "setdefault",
     "sort", "args", "encode", "decode", "hex", "fromhex", "format",
 )
-NO_WORDS = ("type", "typing", "enum", "open", "input", "register", "mro", "elements", "law", "eval", "exec", "print")
+NO_WORDS = ("typing", "enum", "open", "input", "register", "mro", "elements", "law", "eval", "exec", "print")
 ALLOWED_METHODS = (
     "__init__", "__eq__", "__repr__", "__str__", "__len__", "__enter__", "__exit__", "__call__", "__iter__",
 )

@@ -271,7 +271,8 @@ class Steps(Case):
         self.told(case, ("put", "y", "nil"), ("case", (((), ("x",), ("y",)), ((1, LONG, 0), (2, SHORT, 0)))),
                   ("lost", more))
         self.told(case, ("set", "y", "x"), ("lost", case))
-        self.told(case, ("get", "y", "y"), ("lost", (((), ("x",), ("y",)), ((1, LONG, 0), (2, SHORT, 1)))), ("lost", more))
+        self.told(case, ("get", "y", "y"), ("lost", (((), ("x",), ("y",)), ((1, LONG, 0), (2, SHORT, 1)))),
+                  ("lost", more))
         self.told(case, ("new", "y", "nil"), ("lost", case))
 
     def test_nameless_lots_are_left_out_and_the_others_numbered_anew(self):
@@ -283,7 +284,8 @@ class Steps(Case):
         self.told(case, ("put", "x", "x"), ("lost", case))
         case = (((), ("x",), ("y",), (), ()), ((1, SHORT, 3), (2, SHORT, 4), (3, SHORT, 4), (4, SHORT, 3)))
         self.told(case, ("put", "x", "y"),
-                  ("case", (((), ("x",), ("y",), (), ()), ((1, SHORT, 2), (2, SHORT, 3), (3, SHORT, 4), (4, SHORT, 3)))))
+                  ("case", (((), ("x",), ("y",), (), ()), ((1, SHORT, 2), (2, SHORT, 3), (3, SHORT, 4),
+                                                           (4, SHORT, 3)))))
 
     def test_new(self):
         nil = ((("x", "y"),), ())
@@ -313,8 +315,10 @@ class Steps(Case):
     def test_lots_with_names_are_put_in_order(self):
         names = ("a", "b", "c")
         case = (((), ("a", "b"), ("c",)), ((1, SHORT, 2), (2, LONG, 1)))
-        self.told(case, ("set", "a", "c"), ("case", (((), ("a", "c"), ("b",)), ((1, LONG, 2), (2, SHORT, 1)))), names=names)
-        self.told(case, ("set", "a", "nil"), ("case", ((("a",), ("b",), ("c",)), ((1, SHORT, 2), (2, LONG, 1)))), names=names)
+        self.told(case, ("set", "a", "c"), ("case", (((), ("a", "c"), ("b",)), ((1, LONG, 2), (2, SHORT, 1)))),
+                  names=names)
+        self.told(case, ("set", "a", "nil"), ("case", ((("a",), ("b",), ("c",)), ((1, SHORT, 2), (2, LONG, 1)))),
+                  names=names)
 
 
 class BesideRuns(Case):
@@ -394,7 +398,8 @@ class ByName(unittest.TestCase):
         case = (((), ("x",), ("y",)), ((1, SHORT, 2), (2, LONG, 0)))
         self.assertEqual(len(same_twice(self, opened, {"names": TWO, "case": case, "begin": 2})), 2)
         self.assertIs(same_twice(self, looked, {"case": case, "look": ("isnt", "x", "y")}), True)
-        for statement, many in ((("get", "y", "y"), 2), (("new", "y", "x"), 1), (("free", "y"), 2), (("put", "x", "x"), 1)):
+        for statement, many in ((("get", "y", "y"), 2), (("new", "y", "x"), 1), (("free", "y"), 2),
+                                (("put", "x", "x"), 1)):
             named = {"names": TWO, "case": case, "statement": statement}
             self.assertEqual(len(same_twice(self, step, named)), many, statement)
         for _ in (0, 1):

@@ -123,7 +123,8 @@ class Whole(unittest.TestCase):
             self.assertEqual(s.say("show " + one[0]), d.text(one[0]))
             self.assertEqual(read_function(s.say("show " + one[0]).replace("\n", "  ")), one)
             for way, keep in whiles_of(one).items():
-                self.assertEqual(s.say(f"keep {one[0]} {'.'.join(map(str, way))} {saying_text(keep)}").split()[0], "version")
+                self.assertEqual(s.say(f"keep {one[0]} {'.'.join(map(str, way))} {saying_text(keep)}").split()[0],
+                                 "version")
         self.assertEqual(s.say("check"), "let by")
         d.put(WRONG)
         self.assertEqual(s.say("put " + WRONG).split()[0], "version")
@@ -133,9 +134,12 @@ class Whole(unittest.TestCase):
         self.assertEqual(told.split()[:5], ["wrong", name, "begin", plain(store), plain(heap)])
         self.assertEqual(s.say("judge " + told[len("wrong "):]), "yes")
         verdict, where, rows = replay(d.program, d.check())
-        self.assertEqual(s.say("replay " + told[len("wrong "):]), f"{verdict} {'.'.join(map(str, where)) or 'end'} {len(rows)}")
-        self.assertEqual((s.say("undo").split()[0], s.say("check"), s.say("redo").split()[0]), ("version", "let by", "version"))
-        for line in ("main 1 1:2,2:0 1,0,1,0,1 50", "main 0 none none 99", "turnto 1,3 1:2,2:0,3:0 none 99", "join 1,3 1:2,2:0,3:0 none 3"):
+        self.assertEqual(s.say("replay " + told[len("wrong "):]),
+                         f"{verdict} {'.'.join(map(str, where)) or 'end'} {len(rows)}")
+        self.assertEqual((s.say("undo").split()[0], s.say("check"), s.say("redo").split()[0]),
+                         ("version", "let by", "version"))
+        for line in ("main 1 1:2,2:0 1,0,1,0,1 50", "main 0 none none 99", "turnto 1,3 1:2,2:0,3:0 none 99",
+                     "join 1,3 1:2,2:0,3:0 none 3"):
             self.assertEqual(s.say("run " + line), s.say("code " + line))
         self.assertEqual(s.say("run turn 1 1:2,2:5,5:0 none 0"), "long")
 
