@@ -56,7 +56,8 @@ def answers_of(case, function, statement):
         after = moved(lots + ((),), statement[1], goal)
         for clause in function[5]:
             for laid in layings(clause, handed, free):
-                answers.append((after, {**leads, **leads_of(laid)}, laid, goal))
+                anew = leads_of(laid)
+                answers.append((after, {**leads, **anew}, laid, goal))
     return answers
 
 

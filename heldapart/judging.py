@@ -175,6 +175,8 @@ class Trial:
             return "odd"
         if not holds(callee[5], tuple(sorted(own + [("result", given)])), piece):
             return "odd"
-        self.cells = {**left, **dict(piece)}
+        for address, value in piece:
+            left[address] = value
+        self.cells = left
         self.worths[goal] = given
         return "done"

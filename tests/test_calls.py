@@ -327,8 +327,8 @@ class BesideAnswers(Case):
                 if plainly_lost(behind[0], left | dict(piece)):
                     told = [outcome for outcome in outcomes if outcome[0] == "lost"]
                 else:
-                    told = [outcome for outcome in outcomes if outcome[0] == "case" and case_tells(names, outcome[1],
-                                                                                                   *behind)]
+                    told = [outcome for outcome in outcomes
+                            if outcome[0] == "case" and case_tells(names, outcome[1], *behind)]
                 self.assertTrue(told, (case, callee[4:6], statement, store, heap, given, piece))
                 met.update(told)
         self.assertEqual(met, set(outcomes), (case, callee[4:6], statement))

@@ -229,8 +229,8 @@ class Ends(Case):
         program = read_program("fun f(p) var a head empty foot p = nil { while any keep a = p { a = p; "
                                "while any keep a = nil { if any { a = nil; } else { a = p; } } a = nil; } "
                                "while any keep a != nil { a = p; } }")
-        ends = {way: {(where, verdict) for where, verdict, _ in self.ends(program, "f",
-                                                                          way)} for way in cuts(program[0])}
+        told = {way: self.ends(program, "f", way) for way in cuts(program[0])}
+        ends = {way: {(where, verdict) for where, verdict, _ in rows} for way, rows in told.items()}
         self.assertEqual(ends, {
             (): {((0,), "kept"), ((0,), "unkept")},
             (0,): {((0, 0, 1), "kept"), ((0, 0, 1), "unkept"), ((1,), "kept"), ((1,), "unkept")},
@@ -355,8 +355,8 @@ class Ends(Case):
             self.raised(NoFunction, {"name": name}, stretch_ends, many, name, (0,))
         for way in ((), (0,), (1,), (1, 0, 0)):
             self.raised(Open, {"name": "f", "way": (1,)}, stretch_ends, many, "f", way)
-        told = read_program((six % ("empty", "list(a, nil) | list(b, nil)")).replace("while any { while any",
-                                                                                     "if any { while any keep empty"))
+        text = six % ("empty", "list(a, nil) | list(b, nil)")
+        told = read_program(text.replace("while any { while any", "if any { while any keep empty"))
         self.raised(TooMany, {"limit": 8192}, stretch_ends, told, "f", (0,))
         self.assertEqual({where for where, _, _ in stretch_ends(told, "f", ())}, {(0,)})
         self.assertEqual({where for where, _, _ in stretch_ends(told, "f", (1, 0, 0))}, {(), (1, 0, 0)})

@@ -224,8 +224,8 @@ class Values(Case):
         program = read_program("fun f() head empty foot empty { free(nil); } fun g(p) head empty foot empty { free(nil); }")
         self.paper(program, ("f", (), store(), (), ()), "fault", (0,), 1)
         self.paper(program, ("g", (), store(p=4), (), ()), "fault", (0,), 1)
-        self.none(program, *[(name, (), store(), (), ()) for name in ODD + ["g", "F", "f ", "h", "", ["f"],
-                                                                            ("f",)] if name != "f"])
+        names = [name for name in ODD + ["g", "F", "f ", "h", "", ["f"], ("f",)] if name != "f"]
+        self.none(program, *[(name, (), store(), (), ()) for name in names])
 
     def test_stores(self):
         program = read_program("fun f(p) var a head p != nil foot empty { free(nil); }")

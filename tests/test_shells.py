@@ -280,8 +280,8 @@ class Checking(Case):
                     except HeldError as error:
                         self.says(s, (f"ends {one[0]} {plain_way(way)}", "error " + type(error).__name__))
                         continue
-                    meant = [f"{word}:{ends.count(word)}" for word in ("kept", "unkept", "fault", "lost",
-                                                                       "head") if word in ends]
+                    words = [word for word in ("kept", "unkept", "fault", "lost", "head") if word in ends]
+                    meant = [f"{word}:{ends.count(word)}" for word in words]
                     self.says(s, (f"ends {one[0]} {plain_way(way)}", " ".join(meant) or "none"))
         s = shell(TAIL, RIGHT["turn"], "fun none(p) head p != p foot empty { free(nil); }")
         self.says(s, ("ends tail begin", "kept:2 fault:1"), ("ends turn 1", s.say("ends turn 1")),
