@@ -5,6 +5,7 @@ import random
 import unittest
 
 from examples import wrong_examples
+from heldapart.bounds import MAX_CASES
 from heldapart.calls import called
 from heldapart.cases import case_tells, cases_of
 from heldapart.checking import check, cuts, let_by, stretch_ends
@@ -458,6 +459,31 @@ class Checked(Case):
         two = bare.replace("fun g", "fun h")
         self.raised(Open, {"name": "h", "way": (0, 0, 0)}, check, read_program(two + bare))
         self.assertFalse(let_by(read_program(wrong)))
+
+    def test_as_many_cases_as_are_let(self):
+        names = ("a", "b", "c", "d", "e", "result")
+        keep = read_saying("list(a, nil) | cell(a, nil) * list(b, nil) | cell(b, nil) | cell(a, nil) * cell(b, nil)")
+        # One case more with each clause that parts all names, and has a cell that the others have not.
+        for lots, _ in cases_of(names, read_saying("b != c * cell(c, nil)")):
+            if len(cases_of(names, keep)) == MAX_CASES:
+                break
+            rows = [("nil",) + lots[0]] + list(lots[1:])
+            looks = [("is", row[0], name) for row in rows for name in row[1:]]
+            looks += [("isnt", one[0], other[0]) for one, other in itertools.combinations(rows, 2)]
+            keep += ((tuple(looks), (("cell", "c", "nil"),)),)
+        self.assertEqual(len(cases_of(names, keep)), MAX_CASES)
+        head = "fun f(a, b) var c, d, e head a = nil foot empty { while nil = nil { %s } }"
+        for body in ("", "c = c;", "if any { d = d; } e = e;"):
+            one = read_function(head % body)
+            one = one[:6] + ((("while", ("is", "nil", "nil"), keep, one[6][0][3]),),)
+            self.assertIsNone(check((one,)))
+            told = stretch_ends((one,), "f", (0,))
+            self.assertEqual((len(told), {(where, verdict) for where, verdict, _ in told}), (MAX_CASES, {((0,), "kept")}))
+        for body in ("if any { c = nil; } c = c;", "if any { c = nil; }"):
+            one = read_function(head % body)
+            one = one[:6] + ((("while", ("is", "nil", "nil"), keep, one[6][0][3]),),)
+            self.raised(TooMany, {"limit": MAX_CASES}, stretch_ends, (one,), "f", (0,))
+            self.raised(TooMany, {"limit": MAX_CASES}, check, (one,))
 
     def test_let_by_is_just_where_all_ends_are_kept(self):
         source = random.Random(106)

@@ -277,18 +277,15 @@ class Found(unittest.TestCase):
         self.assertTrue(let_by(got[1:]))
 
     def test_as_many_clauses_as_are_let(self):
-        source = random.Random(124)
-        most = 0
-        for _ in range(4000):
-            if most > 56:
-                break
-            program = small_program(source, True)
-            try:
-                got = found(program)
-            except (TooMany, Untold):
-                continue
-            most = max([most] + [len(keep) for one in got for keep in whiles_of(one).values()])
-        self.assertGreater(most, 40)
+        # Four params and nil are parted in 52 ways; a is p in 10 and in 2 of them besides, then q in one more.
+        text = ("fun f(p, q, r, s) var a head empty foot empty { if any { if q = nil { a = p; } else { if q = r { "
+                "if r = s { a = p; } } } } %s while any { } }")
+        program = read_program(text % "")
+        got = self.told(program)
+        self.assertEqual([len(keep) for keep in whiles_of(got[0]).values()], [64])
+        one = "if p = nil { if r = nil { if s = nil { if any { a = q; } } } }"
+        self.raised(TooMany, {"limit": 64}, read_program(text % one))
+        self.assertEqual(naive_found(read_program(text % one)), (TooMany, (64,)))
 
     def test_beside_the_plain_words(self):
         source = random.Random(125)

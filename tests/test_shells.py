@@ -60,7 +60,7 @@ NO_ANSWERS = ["", "any", "any:", "any:maybe", "any:True", "any:1", "Any:yes", "n
               "call:", "call:1/none/none",
               "any:yes;", ";any:yes", "any:yes,any:no", "any:yes;;any:no", "none;any:yes", "none:yes", "put:1",
               "call:1/none;", "\n", "any:yes\n",
-              "new:" + "1" * 61, "call:1/1:" + "1" * 61, "free:1", "yes", "call:x/none"]
+              "new:" + "1" * 61, "call:1/1:" + "1" * 61, "free:1", "put:1/none", "free:1/none", ":1/none", "Call:1/none", "yes", "call:x/none"]
 
 
 def shell(*texts):
