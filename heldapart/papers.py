@@ -93,7 +93,7 @@ class Picture:
                     return
 
     def tell_new(self, made, opened_case):
-        """Tell which address a new cell gets; what case behind left out gets addresses of its own."""
+        """Give lots that were left out addresses of their own, and tell the one that a new cell gets."""
         self.fill(len(opened_case[0]))
         if made is not None:
             self.fill(made + 1)
@@ -153,15 +153,14 @@ class Picture:
         self.forget(own)
 
     def lose_by_call(self, ahead, function, statement):
-        """Tell an answer to the call by which a cell is lost."""
-        own = len(ahead[0])
+        """Tell an answer to the call by which a cell is lost.
+
+        The first one is not amid a long arrow: where such an answer loses a cell one beside all cells does so, too,
+        and is told ahead of it.
+        """
         for lots, leads, laid, goal in answers_of(ahead, function, statement):
             if settled(lots, leads) is None:
-                laid_begins = [begin for begin, _, _ in laid]
-                for begin, row in self.amids.items():
-                    if leads.get(begin) == ("long", own) and begin not in laid_begins:
-                        self.worths[own] = row[0]
-                self.fill(own + 1)
+                self.fill(len(lots))
                 self.answers.append(("call", self.worths[goal], self.cells_along(laid, {})))
-                self.forget(own)
+                self.forget(len(ahead[0]))
                 return

@@ -11,12 +11,13 @@ def settled(lots, leads):
 
     Nameless lots that no name leads to are left out; if an arrow begins at one its cells are lost.
     """
-    named = [spot for _, spot in sorted([(lot, spot) for spot, lot in enumerate(lots) if lot and spot])]
+    rows = sorted([(lot, spot) for spot, lot in enumerate(lots) if lot and spot])
+    named = [spot for _, spot in rows]
     order = [0] + named
     numbers = {spot: number for number, spot in enumerate(order)}
     gone = {}
-    for spot in named:
-        at = spot
+    for begin in named:
+        at = begin
         while at in leads and at not in gone:
             gone[at] = True
             at = leads[at][1]
@@ -25,7 +26,7 @@ def settled(lots, leads):
                 order.append(at)
     if len(gone) < len(leads):
         return None
-    arrows = [(numbers[begin], kind, numbers[end]) for begin, (kind, end) in leads.items()]
+    arrows = [(numbers[spot], kind, numbers[end]) for spot, (kind, end) in leads.items()]
     return (tuple([lots[spot] for spot in order]), tuple(sorted(arrows))), order
 
 

@@ -533,6 +533,85 @@ class Checked(Case):
         self.assertGreater(min(both), 30)
 
 
+class Enough(Exception):
+    """So many steps are enough."""
+
+
+class WatchedRun:
+    """A run of which each step is looked at as J5 tells: spares stand for what calls hand on."""
+
+    def __init__(self, test, program, cells, beside, source):
+        self.test = test
+        self.functions = {one[0]: one for one in program}
+        self.cells = cells
+        self.beside = beside
+        self.source = source
+        self.left = 300
+        self.frames = []
+
+    def begin(self, name, own):
+        try:
+            self.call(name, own)
+            self.look()
+        except (Enough, RecursionError):
+            pass
+
+    def look(self):
+        self.left -= 1
+        if self.left == 0:
+            raise Enough()
+        self.test.assertEqual({at: held for at, held in self.cells.items() if at in self.beside}, self.beside)
+        mine = {at: held for at, held in self.cells.items() if at not in self.beside}
+        values = [value for frame in self.frames for value in frame.items()]
+        if self.frames:
+            self.test.assertFalse(plainly_lost(values, mine))
+
+    def call(self, name, own):
+        one = self.functions[name]
+        frame = {"nil": 0, "result": 0, **{where: 0 for where in one[3]}, **own}
+        self.frames.append(frame)
+        self.row(one[6], frame)
+        self.frames.pop()
+        return frame["result"]
+
+    def holding(self, test, frame):
+        if test == ("any",):
+            return self.source.randint(0, 1) == 1
+        return (frame[test[1]] == frame[test[2]]) == (test[0] == "is")
+
+    def row(self, statements, frame):
+        for statement in statements:
+            self.look()
+            if statement[0] == "if":
+                self.row(statement[2] if self.holding(statement[1], frame) else statement[3], frame)
+            elif statement[0] == "while":
+                while self.holding(statement[1], frame):
+                    self.look()
+                    self.row(statement[3], frame)
+            else:
+                self.plain(statement, frame)
+
+    def plain(self, statement, frame):
+        word = statement[0]
+        if word == "call":
+            callee = self.functions[statement[2]]
+            own = {known: frame[term] for known, term in zip(callee[1] + callee[2], statement[3] + statement[4])}
+            frame[statement[1]] = self.call(statement[2], own)
+        elif word == "set":
+            frame[statement[1]] = frame[statement[2]]
+        elif word == "new":
+            at = self.source.choice([at for at in range(1, 600) if at not in self.cells])
+            self.cells[at] = frame[statement[2]]
+            frame[statement[1]] = at
+        elif word == "get":
+            frame[statement[1]] = self.cells[frame[statement[2]]]
+        elif word == "put":
+            self.test.assertIn(frame[statement[1]], self.cells)
+            self.cells[frame[statement[1]]] = frame[statement[2]]
+        else:
+            del self.cells[frame[statement[1]]]
+
+
 class Runs(Case):
     """What is let by runs well, as A2 (a) and J5 tell."""
 
@@ -562,6 +641,24 @@ class Runs(Case):
         store = tuple(sorted(own + (("result", value),)))
         self.assertTrue(holds(one[5], store, piece))
         self.assertFalse(plainly_lost(store, dict(piece)))
+
+    def test_each_step_leaves_what_lies_beside_and_loses_nothing(self):
+        source = random.Random(110)
+        steps = 0
+        for name in RIGHT:
+            program = right(name)
+            for one in program:
+                names = tuple(sorted(one[1] + one[2]))
+                cases = cases_of(names, one[4])
+                for _ in range(12):
+                    own, mine = stretched(source.choice(cases), names, source)
+                    held = dict(mine)
+                    free = [at for at in range(1, 420) if at not in held]
+                    beside = {at: source.choice([0] + list(held) + free) for at in source.sample(free, 5)}
+                    watched = WatchedRun(self, program, held | beside, beside, source)
+                    watched.begin(one[0], dict(own))
+                    steps += 300 - watched.left
+        self.assertGreater(steps, 5000)
 
     def test_known_ones(self):
         source = random.Random(108)
